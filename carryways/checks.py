@@ -1,0 +1,37 @@
+"""What kinds of values there are: the questions that the checks of all modules ask."""
+
+
+def is_whole(value):
+    """Whether any object is a whole number."""
+    # Python counts True and False among the integers.
+    return isinstance(value, int) and not isinstance(value, bool)
+
+
+def is_count(value):
+    """Whether any object is a whole number of at least 0."""
+    return is_whole(value) and value >= 0
+
+
+def is_count_below(value, bound):
+    """Whether any object is a count below a bound."""
+    return is_count(value) and value < bound
+
+
+def is_base(value):
+    """Whether any object is a base: one thing must be worth more than one of the box below."""
+    return is_whole(value) and value >= 2
+
+
+def are_bases(value):
+    """Whether any object is a list of bases."""
+    return isinstance(value, list) and all([is_base(base) for base in value])
+
+
+def are_counts(value, many):
+    """Whether any object is a list of just so many counts."""
+    return isinstance(value, list) and len(value) == many and all([is_count(count) for count in value])
+
+
+def are_counts_within(value, rooms):
+    """Whether any object is a list of counts, one for each room, none above its room."""
+    return are_counts(value, len(rooms)) and all([count <= room for count, room in zip(value, rooms)])

@@ -1,0 +1,198 @@
+"""What the tests share: small houses, wrong values of each kind, and the check of the errors of a function."""
+
+from itertools import product
+
+from carryways.errors import CarryError, InvalidHouse, InvalidRow
+from carryways.houses import House
+
+
+def loose():
+    """A house without a stiff place."""
+    return House([3, 2], [4, 3, 2])
+
+
+def tight():
+    """A house with two stiff places."""
+    return House([2, 3, 2], [3, 1, 1, 2])
+
+
+# One place, no room at all, rooms of 0 between others, stiff places, and rooms just at the base.
+SMALL = [
+    ([], [0]),
+    ([], [5]),
+    ([2], [0, 0]),
+    ([2], [2, 1]),
+    ([3], [2, 4]),
+    ([5], [4, 0]),
+    ([3, 2], [4, 3, 2]),
+    ([2, 2], [4, 0, 3]),
+    ([2, 3], [0, 3, 1]),
+    ([2, 3, 2], [3, 1, 1, 2]),
+    ([2, 2, 2], [2, 2, 2, 2]),
+]
+
+
+def small_houses():
+    """All small houses, made anew."""
+    return [House(bases, rooms) for bases, rooms in SMALL]
+
+
+def rows_of(house):
+    """The ascending list of ALL rows of a house, by going through them."""
+    return [list(row) for row in product(*[range(room + 1) for room in house.rooms()])]
+
+
+def odd_objects():
+    """Objects that are no number, no list and no tuple of any use."""
+    return [None, True, False, "", "up", "a\tb\n", {}, {0: 1}, {"a": [1]}, loose(), CarryError(), InvalidRow([1])]
+
+
+def wrong_houses():
+    return odd_objects() + [0, 7, -1, [], (), [[3, 2], [4, 3, 2]], ([3, 2], [4, 3, 2])]
+
+
+def no_houses():
+    """Objects that are no house."""
+    return [value for value in wrong_houses() if not isinstance(value, House)]
+
+
+def wrong_bases():
+    """Objects that are no list of bases."""
+    return odd_objects() + [
+        3, -1, (), (3, 2), [1, 2], [3, 1], [0, 2], [3, -2], [True, 2], [3, False], [3, None], ["3", 2], [[3], 2],
+        [(3,), 2], [3, {}], [3, loose()], {3: 2},
+    ]
+
+
+def wrong_base():
+    """Objects that are no single base."""
+    return odd_objects() + [1, 0, -1, -2, [], [2], (2,), [3, 2], "2"]
+
+
+def wrong_rooms():
+    """Objects that are no rooms of a house with two bases."""
+    return odd_objects() + [
+        3, -1, (), (4, 3, 2), [], [4], [4, 3], [4, 3, 2, 1], [-1, 3, 2], [4, 3, -1], [True, 3, 2], [4, False, 2],
+        [4, 3, None], ["4", 3, 2], [[4], 3, 2], [(4,), 3, 2], [4, {}, 2], [4, loose(), 2], {4: 3, 3: 2, 2: 1},
+    ]
+
+
+def wrong_rows():
+    """Objects that are no rows of the house `loose`."""
+    return wrong_rooms() + [[5, 0, 0], [0, 4, 0], [0, 0, 3], [5, 4, 3], [0, 0, 10 ** 20]]
+
+
+def wrong_counts():
+    """Objects that are no count."""
+    return odd_objects() + [-1, -10 ** 20, [], [1], (1,), (), "1"]
+
+
+def wrong_places():
+    """Objects that are no place of the house `loose`."""
+    return wrong_counts() + [3, 4, 10 ** 20]
+
+
+def wrong_deeds():
+    """Objects that are no deed of the house `loose`."""
+    return odd_objects() + [
+        0, 1, [], (), ["up", 0], ["down", 1], ("up",), (0,), ("up", 0, 0), (0, "up"), ("Up", 0), ("", 0), (None, 0),
+        (True, 0), (("up",), 0), (["up"], 0), ("up", 2), ("down", 2), ("up", 3), ("up", -1), ("down", -1),
+        ("up", True), ("down", False), ("up", None), ("up", "0"), ("up", [0]), (loose(), 0), ("up", loose()),
+        ("up", 10 ** 20), "up 0",
+    ]
+
+
+def wrong_chains():
+    """Objects that are no chain from [4, 1, 1] in the house `loose`."""
+    return odd_objects() + [
+        0, 1, (), (("up", 0),), ("up", 0), ["up", 0], [None], [[]], [["up", 0]], ["up"], [("up", 1)], [("down", 0)],
+        [("up", 0), ("up", 0)], [("up", 0), ("up", 1), ("up", 0)], [("up", 0), ("up", 2)], [("up", 0), None],
+        [("up", 2)], [("up", -1)], [("up", True)], [("down", 1), ("down", 1)], {("up", 0): 1}, [("up", 0), ("up", False)],
+    ]
+
+
+def snapshot(value):
+    """A value, with all in it, in a form that stays when the value is changed, and that tells 1 from True."""
+    if isinstance(value, House):
+        return ("House", tuple(value.bases()), tuple(value.rooms()))
+    if isinstance(value, (list, tuple)):
+        return (type(value).__name__, tuple(snapshot(part) for part in value))
+    if isinstance(value, dict):
+        return ("dict", tuple((snapshot(key), snapshot(value[key])) for key in value))
+    if isinstance(value, CarryError):
+        return (type(value).__name__, snapshot(vars(value)))
+    return (type(value).__name__, value)
+
+
+class Argument:
+    """A parameter of a function: its name, a right value, the error for a wrong one, and wrong ones of each kind."""
+
+    def __init__(self, name, good, error, wrong):
+        self.name = name
+        self.good = good
+        self.error = error
+        self.wrong = wrong
+
+
+def a_house(good, name="house"):
+    return Argument(name, good, InvalidHouse, no_houses())
+
+
+def a_row(good, name="row"):
+    return Argument(name, good, InvalidRow, wrong_rows())
+
+
+def expect_error(test, error, value, function, *args, **named):
+    """The call raises just this error, its field is the very object, and no argument is changed."""
+    ahead = snapshot([list(args), named])
+    with test.assertRaises(CarryError) as caught:
+        function(*args, **named)
+    test.assertEqual(type(caught.exception).__name__, error.__name__)
+    test.assertIs(caught.exception.value, value)
+    test.assertEqual(snapshot([list(args), named]), ahead)
+
+
+def check_wrong_arguments(test, function, *arguments):
+    """Each wrong value of each argument, alone, and with each wrong value of each other argument."""
+    good = [argument.good for argument in arguments]
+    for at, argument in enumerate(arguments):
+        for wrong in argument.wrong:
+            args = good[:at] + [wrong] + good[at + 1:]
+            expect_error(test, argument.error, wrong, function, *args)
+            named = {other.name: value for other, value in zip(arguments, args)}
+            expect_error(test, argument.error, wrong, function, **named)
+            # The earlier argument is judged first, so a later wrong one must not matter.
+            for later in range(at + 1, len(arguments)):
+                for also in arguments[later].wrong:
+                    both = args[:later] + [also] + args[later + 1:]
+                    expect_error(test, argument.error, wrong, function, *both)
+        rest = [other.wrong[0] for other in arguments[at:]]
+        expect_error(test, argument.error, rest[0], function, *(good[:at] + rest))
+
+
+def check_leaves_arguments(test, function, *args):
+    """A call changes nothing that was passed; returns what it gives."""
+    ahead = snapshot(list(args))
+    told = function(*args)
+    test.assertEqual(snapshot(list(args)), ahead)
+    return told
+
+
+def spoil(value):
+    """Changes each list and dictionary within a value that was returned."""
+    if isinstance(value, (list, tuple)):
+        for part in value:
+            spoil(part)
+    if isinstance(value, list):
+        value.append("spoilt")
+        value[0] = "spoilt"
+
+
+def check_fresh(test, function, *args):
+    """What is returned may be changed: neither the arguments nor what is returned later change by it."""
+    ahead = snapshot(list(args))
+    first = function(*args)
+    told = snapshot(first)
+    spoil(first)
+    test.assertEqual(snapshot(list(args)), ahead)
+    test.assertEqual(snapshot(function(*args)), told)

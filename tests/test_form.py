@@ -1,0 +1,96 @@
+"""The form of the package: those rules of its language that a look at the text can tell."""
+
+import ast
+import builtins
+import os
+import unittest
+
+PACKAGE = os.path.join(os.path.dirname(os.path.dirname(os.path.abspath(__file__))), "carryways")
+ALLOWED_BUILTINS = [
+    "len", "range", "enumerate", "zip", "min", "max", "sum", "abs", "sorted", "reversed", "int", "str", "bool", "list",
+    "tuple", "dict", "set", "isinstance", "ord", "repr", "any", "all", "divmod", "map", "ValueError", "KeyError",
+]
+BARRED = (ast.GeneratorExp, ast.Global, ast.AsyncFunctionDef, ast.Await, ast.Div, ast.Import)
+
+
+def texts():
+    """The files of the package by their names."""
+    found = {}
+    for name in sorted(os.listdir(PACKAGE)):
+        if name != "__pycache__":
+            with open(os.path.join(PACKAGE, name), encoding="utf-8", newline="") as file:
+                found[name] = file.read()
+    return found
+
+
+def trees():
+    return {name: ast.parse(text) for name, text in texts().items()}
+
+
+def imports_of(tree):
+    return [node for node in ast.walk(tree) if isinstance(node, ast.ImportFrom)]
+
+
+def file_of(imported):
+    return imported.module.partition(".")[2] + ".py"
+
+
+def names_bound(tree):
+    """All names of variables, parameters, functions and classes, imports apart."""
+    names = [node.id for node in ast.walk(tree) if isinstance(node, ast.Name) and not isinstance(node.ctx, ast.Load)]
+    names += [node.arg for node in ast.walk(tree) if isinstance(node, ast.arg)]
+    return names + [node.name for node in ast.walk(tree) if isinstance(node, (ast.FunctionDef, ast.ClassDef))]
+
+
+class Form(unittest.TestCase):
+    def test_files(self):
+        self.assertIn("__init__.py", texts())
+        for name, text in texts().items():
+            self.assertTrue(name.endswith(".py") and name == name.lower(), name)
+            self.assertTrue(all(" " <= sign <= "~" or sign == "\n" for sign in text), name)
+            self.assertLess(len(text.split("\n")), 400, name)
+            self.assertLessEqual(max(len(line) for line in text.split("\n")), 120, name)
+
+    def test_functions_are_small(self):
+        for name, tree in trees().items():
+            for node in ast.walk(tree):
+                if isinstance(node, ast.FunctionDef):
+                    self.assertLessEqual(node.end_lineno - node.lineno + 1, 40, (name, node.name))
+
+    def test_module_level(self):
+        for name, tree in trees().items():
+            self.assertIsNotNone(ast.get_docstring(tree), name)
+            for node in tree.body[1:]:
+                self.assertIsInstance(node, (ast.ImportFrom, ast.FunctionDef, ast.ClassDef, ast.Assign), name)
+
+    def test_imports_name_the_file_that_defines(self):
+        for name, tree in trees().items():
+            for imported in imports_of(tree):
+                self.assertTrue(imported.module.startswith("carryways."), (name, imported.module))
+                defined = names_bound(trees()[file_of(imported)])
+                for part in imported.names:
+                    self.assertIsNone(part.asname)
+                    self.assertIn(part.name, defined, name)
+                    self.assertNotIn(part.name, names_bound(tree), name)
+
+    def test_no_two_files_import_from_each_other(self):
+        left = {name: [file_of(imported) for imported in imports_of(tree)] for name, tree in trees().items()}
+        while left:
+            free = [name for name in left if not any(late in left for late in left[name])]
+            self.assertNotEqual(free, [], left)
+            for name in free:
+                del left[name]
+
+    def test_signs_and_builtins(self):
+        for name, tree in trees().items():
+            renamed = [one for one in names_bound(tree) if hasattr(builtins, one) and not one.startswith("__")]
+            self.assertEqual(renamed, [], name)
+            known = names_bound(tree) + [part.name for imported in imports_of(tree) for part in imported.names]
+            for node in ast.walk(tree):
+                self.assertNotIsInstance(node, BARRED, (name, getattr(node, "lineno", 0)))
+                if isinstance(node, ast.Name):
+                    self.assertIn(node.id, known + ALLOWED_BUILTINS, (name, node.lineno))
+
+
+if __name__ == "__main__":
+    unittest.main()
