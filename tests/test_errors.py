@@ -1,5 +1,6 @@
 """Point [5]: the classes of the errors."""
 
+import inspect
 import unittest
 
 import carryways.errors as errors
@@ -29,6 +30,15 @@ class Errors(unittest.TestCase):
         for name in VALUED + BARE:
             for other in VALUED + BARE:
                 self.assertEqual(issubclass(named(name), named(other)), name == other, (name, other))
+
+    def test_each_has_its_constructor_in_its_own_body(self):
+        for name in VALUED:
+            self.assertIn("__init__", vars(named(name)), name)
+            self.assertEqual(str(inspect.signature(vars(named(name))["__init__"])), "(self, value=None)", name)
+
+    def test_each_is_derived_from_carry_error_alone(self):
+        for name in VALUED + BARE:
+            self.assertEqual(named(name).__bases__, (errors.CarryError,), name)
 
     def test_value_is_the_very_object_by_position(self):
         for name in VALUED:
