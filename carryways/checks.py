@@ -17,6 +17,11 @@ def is_count_below(value, bound):
     return is_count(value) and value < bound
 
 
+def are_whole(value, many):
+    """Whether any object is a list of just so many whole numbers."""
+    return isinstance(value, list) and len(value) == many and all([is_whole(number) for number in value])
+
+
 def is_base(value):
     """Whether any object is a base: one thing must be worth more than one of the box below."""
     return is_whole(value) and value >= 2
@@ -35,3 +40,18 @@ def are_counts(value, many):
 def are_counts_within(value, rooms):
     """Whether any object is a list of counts, one for each room, none above its room."""
     return are_counts(value, len(rooms)) and all([count <= room for count, room in zip(value, rooms)])
+
+
+def is_tuple_of(value, many):
+    """Whether any object is a tuple of just so many things."""
+    return isinstance(value, tuple) and len(value) == many
+
+
+def is_just(value, told):
+    """Whether any object is what is told: a word, a whole number, or a tuple of such, kind by kind."""
+    # Python's == takes True for 1, also within tuples.
+    if isinstance(told, tuple):
+        return is_tuple_of(value, len(told)) and all([is_just(one, other) for one, other in zip(value, told)])
+    if isinstance(told, str):
+        return isinstance(value, str) and value == told
+    return is_whole(value) and value == told

@@ -2,7 +2,7 @@
 
 from itertools import product
 
-from carryways.errors import CarryError, InvalidHouse, InvalidRow
+from carryways.errors import Apart, CarryError, InvalidHouse, InvalidPlace, InvalidRow
 from carryways.houses import House
 
 
@@ -111,6 +111,46 @@ def wrong_chains():
     ]
 
 
+def wrong_numbers():
+    """Objects that are no whole number."""
+    return [value for value in wrong_counts() if value not in (-1, -10 ** 20) or isinstance(value, bool)]
+
+
+def wrong_carries():
+    """Objects that are no carries of the house `loose`."""
+    return odd_objects() + [
+        0, 1, (), (0, 0), [], [0], [0, 0, 0], [True, 0], [0, False], [0, None], ["0", 0], [[0], 0], [0, (0,)],
+        [0, loose()], {0: 0, 1: 0},
+    ]
+
+
+def wrong_worths():
+    """Objects that are no part worths of the house `tight`."""
+    carries = [value for value in wrong_carries() if value != [0, 0, 0]]
+    return carries + [(0, 0, 0), [0, 0, 0, 0], [0, -1, 0], [True, 0, 0], [0, False, 0], [0, 0, None], [0, 0]]
+
+
+def wrong_wishes():
+    """Objects that are no wish of the house `loose`."""
+    return odd_objects() + [
+        0, 1, (), [], [(0, 4)], [(0, 4), (0, 3)], [(0, 4), (0, 3), (0, 2), (0, 1)], ((0, 4), (0, 3), (0, 2)),
+        [(0, 5), (0, 3), (0, 2)], [(0, 4), (0, 3), (0, 3)], [(-1, 4), (0, 3), (0, 2)], [(0, 4), (2, 1), (0, 2)],
+        [[0, 4], (0, 3), (0, 2)], [(0, 4), (0, 3), [0, 2]], [(0, 4), (False, 3), (0, 2)], [(0, 4), (0, True), (0, 2)],
+        [(0, 4), (0, 3), (0,)], [(0, 4), (0, 3), (0, 1, 2)], [(0, 4), (0, 3), None], [(0, 4), (0, 3), 2],
+        [(0, 4), (None, 3), (0, 2)], [("0", 4), (0, 3), (0, 2)], [((0,), 4), (0, 3), (0, 2)], [4, 3, 2],
+        {0: (0, 4), 1: (0, 3), 2: (0, 2)}, [(0, 4), loose(), (0, 2)],
+    ]
+
+
+def wrong_steps():
+    """Objects that are no step from the least to the greatest row of the class of [4, 1, 1] in `loose`."""
+    return odd_objects() + [
+        0, 1, (), [], [0, 1], (0,), (0, 1, 1), (0, 0), (0, 2), (1, 3), (2, 1), (-1, 1), (1, -1), (False, 1), (0, True),
+        (True, 1), (None, 1), (0, None), ("0", 1), ((0,), 1), (0, (1,)), ([0], 1), (loose(), 1), [(0, 1)],
+        (10 ** 20, 1), (0, 10 ** 20),
+    ]
+
+
 def snapshot(value):
     """A value, with all in it, in a form that stays when the value is changed, and that tells 1 from True."""
     if isinstance(value, House):
@@ -142,6 +182,10 @@ def a_row(good, name="row"):
     return Argument(name, good, InvalidRow, wrong_rows())
 
 
+def a_place(good, name="place"):
+    return Argument(name, good, InvalidPlace, wrong_places())
+
+
 def expect_error(test, error, value, function, *args, **named):
     """The call raises just this error, its field is the very object, and no argument is changed."""
     ahead = snapshot([list(args), named])
@@ -170,6 +214,47 @@ def check_wrong_arguments(test, function, *arguments):
         expect_error(test, argument.error, rest[0], function, *(good[:at] + rest))
 
 
+def check_judge(test, function, values, *arguments):
+    """A judge: whatever the last argument is, the others are checked as elsewhere."""
+    for value in values:
+        def with_value(*args, **named):
+            return function(*args, **named, value=value)
+        check_wrong_arguments(test, with_value, *arguments)
+
+
+def check_apart(test, function, house, one, other, *rest):
+    """Apart with the very row, whatever comes behind it."""
+    expect_error(test, Apart, other, function, house, one, other, *rest)
+    named = list(house.rooms())
+    named[0] += 1
+    for wrong in (named, None, tuple(one)):
+        expect_error(test, InvalidRow, wrong, function, house, wrong, other, *rest)
+        expect_error(test, InvalidRow, wrong, function, house, one, wrong, *rest)
+
+
+def kinds_changed(value):
+    """Things that Python may take for a value, or that look like it, and that are of other kinds."""
+    found = []
+    if isinstance(value, int) and not isinstance(value, bool):
+        found += [str(value), [value], (value,)] + [odd for odd in (True, False) if odd == value]
+    if isinstance(value, str):
+        found += [value + " ", value[1:], [value], (value,), None]
+    if isinstance(value, (list, tuple)):
+        kind, other = (list, tuple) if isinstance(value, list) else (tuple, list)
+        found += [other(value), {at: part for at, part in enumerate(value)}]
+        for at, part in enumerate(value):
+            found += [kind([*value[:at], odd, *value[at + 1:]]) for odd in kinds_changed(part) + [None, {}]]
+    return found
+
+
+def check_refuses_objects(test, judge, good, *args, right=()):
+    """A judge takes a value, and neither odd objects nor the value with a part of another kind (but what is right)."""
+    test.assertIs(judge(*args, good), True)
+    for value in odd_objects() + [0, 1, -1, [], (), [[]], [()], [None]] + kinds_changed(good):
+        if snapshot(value) not in [snapshot(one) for one in (good, *right)]:
+            test.assertIs(check_leaves_arguments(test, judge, *args, value), False, value)
+
+
 def check_leaves_arguments(test, function, *args):
     """A call changes nothing that was passed; returns what it gives."""
     ahead = snapshot(list(args))
@@ -186,6 +271,11 @@ def spoil(value):
     if isinstance(value, list):
         value.append("spoilt")
         value[0] = "spoilt"
+    if isinstance(value, dict):
+        for key in list(value):
+            spoil(value[key])
+            value[key] = "spoilt"
+        value["spoilt"] = 1
 
 
 def check_fresh(test, function, *args):

@@ -27,6 +27,62 @@ ways = [("up", 1), ("up", 0), ("up", 1)]
 # [[[1, 0, 2], [4, 1, 1]], ('down', 0), None, False, True, True]
 """
 
+CLASSES = """
+from carryways.classes import carried, carries, closest_parts, coarse_row, greater_of, greatest_first, house_of_parts, is_why_apart, joined, lesser_of, part_worths, parts, stiff_places
+from carryways.houses import House
+loose, tight = House([3, 2], [4, 3, 2]), House([2, 3, 2], [3, 1, 1, 2])
+[parts(loose), stiff_places(tight), parts(tight), part_worths(tight, [3, 0, 1, 1]), coarse_row(tight, [1, 1, 1, 1]), house_of_parts(tight) == House([6, 2], [5, 1, 2])]
+# [[(0, 2)], [1, 2], [(0, 1), (2, 2), (3, 3)], [3, 1, 1], [3, 1, 1], True]
+[joined(tight, [3, 0, 1, 1], [1, 1, 1, 1]), joined(tight, [0, 0, 0, 1], [0, 0, 1, 0]), is_why_apart(tight, [0, 0, 0, 1], [0, 0, 1, 0], ((3, 3), 1, 0))]
+# [True, False, True]
+[carries(loose, [4, 1, 1], [1, 0, 2]), carries(loose, [4, 1, 1], [4, 3, 0]), carried(loose, [4, 1, 1], [1, 0]), carried(loose, [4, 1, 1], [2, 0])]
+# [[1, 1], [0, -1], [1, 2, 1], None]
+[lesser_of(loose, [1, 2, 1], [4, 3, 0]), greater_of(loose, [1, 2, 1], [4, 3, 0]), greatest_first(loose, 13), greatest_first(tight, 11), closest_parts(tight, [0, 0, 0, 1], [0, 0, 1, 0])]
+# [[4, 3, 0], [1, 2, 1], [1, 0, 2], [3, 1, 1, 0], [0, 1, -1]]
+"""
+
+CHAINS = """
+from carryways.chains import fewest_deeds, fewest_rounds, first_deeds, is_chain, is_neck, is_round, many_shortest, moments, rounds_for, shortest_chain, steps_between, waits_for
+from carryways.houses import House
+house = House([3, 2], [4, 3, 2])
+[fewest_deeds(house, [4, 3, 0], [1, 0, 2]), shortest_chain(house, [4, 3, 0], [1, 0, 2]), first_deeds(house, [4, 3, 0], [1, 0, 2]), many_shortest(house, [4, 3, 0], [1, 0, 2])]
+# [3, [('up', 1), ('up', 0), ('up', 1)], [('up', 1)], 1]
+[steps_between(house, [4, 3, 0], [1, 0, 2]), waits_for(house, [4, 3, 0], [1, 0, 2], (1, 2)), moments(house, [4, 3, 0], [1, 0, 2]), is_neck(house, [4, 3, 0], [1, 0, 2], [(1, 1), (0, 1), (1, 2)])]
+# [[(0, 1), (1, 1), (1, 2)], [(0, 1), (1, 1)], [[2], [1, 3]], True]
+steep = House([2, 2], [8, 2, 2])
+[waits_for(steep, [8, 0, 0], [0, 0, 2], (0, 1)), waits_for(steep, [8, 0, 0], [0, 0, 2], (0, 3)), waits_for(steep, [8, 0, 0], [0, 0, 2], (1, 2)), moments(steep, [8, 0, 0], [0, 0, 2])]
+# [[], [(0, 2), (1, 1)], [(0, 4), (1, 1)], [[1, 2, 4, 5], [3, 6]]]
+wide = House([2, 2, 3], [6, 3, 4, 2])
+[fewest_deeds(wide, [6, 0, 4, 0], [0, 1, 2, 1]), fewest_rounds(wide, [6, 0, 4, 0], [0, 1, 2, 1]), many_shortest(wide, [6, 0, 4, 0], [0, 1, 2, 1]), rounds_for(wide, [6, 0, 4, 0], [0, 1, 2, 1])]
+# [5, 3, 7, [[('up', 0), ('up', 2)], [('up', 0)], [('up', 0), ('up', 1)]]]
+[is_round(wide, [6, 0, 4, 0], [("up", 0), ("down", 1), ("up", 2)]), is_chain(house, [4, 3, 0], [1, 0, 2], [("up", 0)]), fewest_rounds(wide, [6, 0, 4, 0], [6, 0, 4, 0])]
+# [True, False, 0]
+"""
+
+ENDS = """
+from carryways.ends import carry_ranges, dead_places, farthest, farthest_deeds, greatest_row, is_farthest, least_row, most_deeds, thing_range
+from carryways.houses import House
+loose, tight = House([3, 2], [4, 3, 2]), House([2, 3, 2], [3, 1, 1, 2])
+[carry_ranges(loose, [4, 1, 1]), least_row(loose, [4, 1, 1]), greatest_row(loose, [4, 1, 1]), farthest_deeds(loose, [4, 1, 1]), most_deeds(loose, [4, 1, 1]), farthest(loose, [4, 1, 1])]
+# [[(0, 1), (-1, 1)], [4, 3, 0], [1, 0, 2], 3, 2, [1, 0, 2]]
+[carry_ranges(tight, [3, 0, 1, 1]), dead_places(tight, [3, 0, 1, 1]), thing_range(loose, [4, 1, 1]), is_farthest(loose, [1, 0, 2], [4, 3, 0])]
+# [[(0, 1), (0, 0), (0, 0)], [1, 2], (3, 7), True]
+"""
+
+WISHES = """
+from carryways.houses import House
+from carryways.wishes import barring_place, barring_places, deeds_to, held_at, is_met, is_nearest, many_lots, meeting_ends, meeting_row, meets, nearest, pairs_at, rigid_places, same_lot, wish_house
+loose, free = House([3, 2], [4, 3, 2]), House([2, 2], [4, 2, 1])
+row, some = [4, 1, 1], [(0, 4), (2, 3), (0, 2)]
+[meets(loose, row, some), is_met(loose, row, some), meeting_ends(loose, row, some), barring_places(loose, row, [(2, 3), (0, 3), (0, 2)]), barring_place(loose, row, [(0, 1), (0, 1), (0, 1)])]
+# [False, True, ([4, 3, 0], [1, 2, 1]), [0], 2]
+[deeds_to(loose, row, some), is_nearest(loose, row, some, [4, 3, 0]), is_nearest(loose, row, some, [1, 2, 1]), meeting_row(loose, row, [(2, 3), (0, 3), (0, 2)]), held_at(loose, row, 0), held_at(loose, row, 1), pairs_at(loose, row, 0, 1)]
+# [1, True, True, None, [1, 4], [0, 1, 2, 3], [(1, 0), (1, 2), (4, 1), (4, 3)]]
+few = [(0, 4), (0, 1), (0, 1)]
+[wish_house(free, few) == House([2, 2], [4, 1, 1]), many_lots(free, [4, 0, 0], few), same_lot(free, [4, 0, 0], [2, 1, 0], few), same_lot(free, [4, 0, 0], [0, 0, 1], few), rigid_places(free, [4, 2, 1])]
+# [True, 2, True, False, [0, 1, 2]]
+"""
+
 
 class Examples(unittest.TestCase):
     def check_block(self, block, many):
@@ -44,6 +100,18 @@ class Examples(unittest.TestCase):
 
     def test_rows(self):
         self.check_block(ROWS, 3)
+
+    def test_classes(self):
+        self.check_block(CLASSES, 4)
+
+    def test_chains(self):
+        self.check_block(CHAINS, 5)
+
+    def test_ends(self):
+        self.check_block(ENDS, 2)
+
+    def test_wishes(self):
+        self.check_block(WISHES, 3)
 
 
 if __name__ == "__main__":

@@ -10,7 +10,16 @@ ALLOWED_BUILTINS = [
     "len", "range", "enumerate", "zip", "min", "max", "sum", "abs", "sorted", "reversed", "int", "str", "bool", "list",
     "tuple", "dict", "set", "isinstance", "ord", "repr", "any", "all", "divmod", "map", "ValueError", "KeyError",
 ]
-BARRED = (ast.GeneratorExp, ast.Global, ast.AsyncFunctionDef, ast.Await, ast.Div, ast.Import)
+METHODS = """
+    append clear copy count endswith extend find get index insert isalnum isalpha isdigit islower isspace isupper items
+    join keys ljust lower lstrip partition pop remove replace reverse rfind rjust rpartition rsplit rstrip setdefault
+    split splitlines startswith strip update upper values zfill bit_length""".split()
+WORDS = """
+    type typing typing_extensions enum Enum IntEnum StrEnum Flag IntFlag Generic Protocol ABC ABCMeta namedtuple
+    NamedTuple TypedDict TYPE_CHECKING abstractmethod register mro elements open input law version_info""".split()
+BARRED = (
+    ast.GeneratorExp, ast.Global, ast.AsyncFunctionDef, ast.Await, ast.Div, ast.Import, ast.Pow, ast.Lambda, ast.Yield,
+    ast.SetComp, ast.Set, ast.Try)
 
 
 def texts():
@@ -90,6 +99,46 @@ class Form(unittest.TestCase):
                 self.assertNotIsInstance(node, BARRED, (name, getattr(node, "lineno", 0)))
                 if isinstance(node, ast.Name):
                     self.assertIn(node.id, known + ALLOWED_BUILTINS, (name, node.lineno))
+
+    def test_methods(self):
+        own = []
+        for tree in trees().values():
+            for node in ast.walk(tree):
+                if isinstance(node, ast.ClassDef):
+                    own += [part.name for part in node.body if isinstance(part, ast.FunctionDef)]
+        for name, tree in trees().items():
+            for node in ast.walk(tree):
+                if isinstance(node, ast.Attribute):
+                    kept = node.attr.startswith("_") and isinstance(node.value, ast.Name)
+                    self.assertTrue(node.attr in METHODS + own + ["value"] or kept, (name, node.attr))
+
+    def test_words_and_literals(self):
+        for name, tree in trees().items():
+            for node in ast.walk(tree):
+                words = [getattr(node, part, None) for part in ("id", "attr", "arg", "name")]
+                self.assertFalse([word for word in words if word in WORDS], name)
+                if isinstance(node, ast.Constant):
+                    self.assertNotIsInstance(node.value, (float, complex, bytes), name)
+                    self.assertNotIn("%", str(node.value), name)
+                if isinstance(node, ast.Compare):
+                    for sign, late in zip(node.ops, node.comparators):
+                        if isinstance(sign, (ast.Is, ast.IsNot)):
+                            self.assertIsInstance(late, ast.Constant, (name, node.lineno))
+
+    def test_what_is_looped_over_is_not_changed(self):
+        changing = ("append", "clear", "extend", "insert", "pop", "remove", "reverse", "setdefault", "update")
+        for name, tree in trees().items():
+            for loop in [node for node in ast.walk(tree) if isinstance(node, ast.For)]:
+                read = [node.id for node in ast.walk(loop.iter) if isinstance(node, ast.Name)]
+                inside = [node for part in loop.body for node in ast.walk(part)]
+                changed = [
+                    node.func.value.id for node in inside if isinstance(node, ast.Call)
+                    and isinstance(node.func, ast.Attribute) and node.func.attr in changing
+                    and isinstance(node.func.value, ast.Name)]
+                changed += [
+                    node.value.id for node in inside if isinstance(node, ast.Subscript)
+                    and isinstance(node.ctx, ast.Store) and isinstance(node.value, ast.Name)]
+                self.assertFalse([one for one in changed if one in read], (name, loop.lineno))
 
 
 if __name__ == "__main__":

@@ -20,6 +20,30 @@ FUNCTIONS = {
         deed_between(house, one, other) is_chain_from(house, row, value) rows_on(house, row, chain)
         row_behind(house, row, chain) chain_back(house, row, chain) deeds_counted(house, row, chain)
         first_unlike(house, one, other) same_up_to(house, one, other, place)""",
+    "carryways.classes": """
+        stiff_places(house) parts(house) part_worths(house, row) joined(house, one, other)
+        why_apart(house, one, other) is_why_apart(house, one, other, value) carries(house, one, other)
+        carried(house, row, carries) house_of_parts(house) coarse_row(house, row) row_of_class(house, worths)
+        greatest_first(house, worth) lesser_of(house, one, other) greater_of(house, one, other)
+        closest_parts(house, one, other)""",
+    "carryways.ends": """
+        carry_ranges(house, row) least_row(house, row) greatest_row(house, row) farthest_deeds(house, row)
+        most_deeds(house, row) farthest(house, row) is_farthest(house, row, value) dead_places(house, row)
+        thing_range(house, row)""",
+    "carryways.wishes": """
+        is_wish(house, value) meets(house, row, wish) is_met(house, row, wish) barring_places(house, row, wish)
+        barring_place(house, row, wish) meeting_row(house, row, wish) is_meeting_row(house, row, wish, value)
+        meeting_ends(house, row, wish) wish_house(house, wish) same_lot(house, one, other, wish)
+        many_lots(house, row, wish) held_at(house, row, place) rigid_places(house, row)
+        pairs_at(house, row, place, late) deeds_to(house, row, wish) nearest(house, row, wish)
+        is_nearest(house, row, wish, value)""",
+    "carryways.chains": """
+        fewest_deeds(house, one, other) shortest_chain(house, one, other) is_chain(house, one, other, value)
+        is_shortest_chain(house, one, other, value) first_deeds(house, one, other)
+        many_shortest(house, one, other) steps_between(house, one, other) waits_for(house, one, other, step)
+        is_round(house, row, value) behind_round(house, row, deeds) are_rounds(house, one, other, value)
+        fewest_rounds(house, one, other) rounds_for(house, one, other) moments(house, one, other)
+        neck(house, one, other) is_neck(house, one, other, value)""",
 }
 
 

@@ -8,6 +8,7 @@ from carryways.rows import (
     chain_back, deed_between, deeds_counted, deeds_let, done, first_unlike, is_alone, is_chain_from, is_let, is_row,
     many_things, row_behind, rows_beside, rows_on, same_up_to, worth_of,
 )
+from tests.plain import by_hand, deeds_of
 from tests.support import (
     Argument, a_house, a_row, check_fresh, check_leaves_arguments, check_wrong_arguments, expect_error, loose, rows_of,
     small_houses, wrong_chains, wrong_deeds, wrong_places, wrong_rows,
@@ -15,23 +16,6 @@ from tests.support import (
 
 ROW = [4, 1, 1]
 WAYS = [("up", 1), ("up", 0), ("up", 1)]
-
-
-def deeds_of(house):
-    """All deeds of a house, ascending."""
-    return sorted((word, place) for word in ("up", "down") for place in range(house.places() - 1))
-
-
-def by_hand(house, row, deed):
-    """The row that comes by a deed, None if it is not let."""
-    word, place = deed
-    base, came = house.bases()[place], list(row)
-    if word == "up":
-        came[place], came[place + 1] = came[place] - base, came[place + 1] + 1
-    else:
-        came[place], came[place + 1] = came[place] + base, came[place + 1] - 1
-    fits = all(0 <= count <= room for count, room in zip(came, house.rooms()))
-    return came if fits else None
 
 
 def some_chains(house, row, longest):
