@@ -83,6 +83,45 @@ few = [(0, 4), (0, 1), (0, 1)]
 # [True, 2, True, False, [0, 1, 2]]
 """
 
+STEPS = """
+from carryways.houses import House
+from carryways.steps import all_ahead, are_closed, climb, is_below, is_climb, longest_needs, many_climbs, needs, row_by, steps_above, steps_of, taken
+loose = House([3, 2], [4, 3, 2])
+[steps_of(loose, [4, 1, 1]), taken(loose, [4, 1, 1]), needs(loose, [4, 1, 1], (1, 2)), needs(loose, [4, 1, 1], (0, 1)), climb(loose, [4, 1, 1]), row_by(loose, [4, 1, 1], [(0, 1), (1, 1)])]
+# [[(0, 1), (1, 1), (1, 2)], [(1, 1)], [(0, 1), (1, 1)], [(1, 1)], [(1, 1), (0, 1), (1, 2)], [1, 2, 1]]
+wide = House([2, 2, 2], [5, 4, 3, 2])
+[len(steps_of(wide, [3, 2, 1, 1])), needs(wide, [3, 2, 1, 1], (1, 2)), all_ahead(wide, [3, 2, 1, 1], (2, 2)), many_climbs(wide, [3, 2, 1, 1]), len(longest_needs(wide, [3, 2, 1, 1]))]
+# [6, [(0, 1), (1, 1), (2, 1)], [(0, 1), (1, 1), (1, 2), (2, 1)], 20, 3]
+[are_closed(wide, [3, 2, 1, 1], [(0, 1), (2, 1)]), are_closed(wide, [3, 2, 1, 1], [(0, 2)]), is_below(wide, [5, 3, 2, 0], [3, 2, 1, 1]), steps_above(wide, [5, 3, 2, 0], [3, 2, 1, 1])]
+# [True, False, True, [(0, 1), (1, 1), (2, 1)]]
+"""
+
+COUNTS = """
+from carryways.counts import by_things, class_at, class_place, class_size, classes_of_worth, greatest_size, many_alone, many_classes, many_deeds, place_in_class, row_in_class, row_of_things, rows_of_worth
+from carryways.houses import House
+house, row = House([3, 2], [4, 3, 2]), [4, 1, 1]
+[many_classes(house), class_place(house, row), class_size(house, row), [row_in_class(house, row, at) for at in range(4)], place_in_class(house, row), by_things(house, row)]
+# [26, 13, 4, [[1, 0, 2], [1, 2, 1], [4, 1, 1], [4, 3, 0]], 2, {3: 1, 4: 1, 6: 1, 7: 1}]
+[row_of_things(house, row, 4), row_of_things(house, row, 5), many_alone(house), many_deeds(house), greatest_size(house)]
+# [[1, 2, 1], None, 8, 76, 4]
+stiff = House([4, 5], [3, 9, 2])
+[many_classes(stiff), class_place(stiff, [2, 7, 1]), class_size(stiff, class_at(stiff, 52)), rows_of_worth(stiff, 50), classes_of_worth(stiff, 50)]
+# [80, 52, 2, 2, 1]
+"""
+
+HOLDING = """
+from carryways.holding import all_held, gap_of, held_below, holds_alike, is_held, is_two_of_worth, is_why_not_held, last_held, least_alike, many_held, marks_of, next_held, two_of_worth, unlike_worth, why_not_held, worth_at, worth_decides
+from carryways.houses import House
+small, great = House([3], [1, 2]), House([3], [4, 1])
+[is_held(small, 4), is_held(small, 5), why_not_held(small, 5), is_why_not_held(small, -1, ("below",)), why_not_held(small, 4), next_held(small, 5), last_held(small, 5), all_held(small), gap_of(small)]
+# [True, False, ('place', 0), True, None, 6, 4, False, 2]
+[many_held(small), held_below(small, 6), worth_at(small, 5), marks_of(small), holds_alike(small, great), unlike_worth(small, great), many_held(great)]
+# [6, 4, 7, [1, 7], False, 2, 8]
+stiff = House([2, 3], [5, 1, 1])
+[marks_of(stiff), worth_decides(stiff), is_two_of_worth(stiff, two_of_worth(stiff)), is_two_of_worth(stiff, ([1, 0, 1], [5, 1, 0])), worth_decides(House([2, 3, 2], [3, 1, 1, 2])), least_alike(great).rooms(), least_alike(stiff).rooms()]
+# [[1, 5, 13], False, True, True, True, [4, 1], [1, 3, 1]]
+"""
+
 
 class Examples(unittest.TestCase):
     def check_block(self, block, many):
@@ -112,6 +151,15 @@ class Examples(unittest.TestCase):
 
     def test_wishes(self):
         self.check_block(WISHES, 3)
+
+    def test_steps(self):
+        self.check_block(STEPS, 3)
+
+    def test_counts(self):
+        self.check_block(COUNTS, 3)
+
+    def test_holding(self):
+        self.check_block(HOLDING, 3)
 
 
 if __name__ == "__main__":

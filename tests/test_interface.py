@@ -44,6 +44,23 @@ FUNCTIONS = {
         is_round(house, row, value) behind_round(house, row, deeds) are_rounds(house, one, other, value)
         fewest_rounds(house, one, other) rounds_for(house, one, other) moments(house, one, other)
         neck(house, one, other) is_neck(house, one, other, value)""",
+    "carryways.steps": """
+        steps_of(house, row) taken(house, row) needs(house, row, step) all_ahead(house, row, step)
+        are_closed(house, row, value) row_by(house, row, steps) is_below(house, row, other)
+        steps_above(house, row, other) climb(house, row) is_climb(house, row, value) many_climbs(house, row)
+        longest_needs(house, row) is_longest_needs(house, row, value)""",
+    "carryways.counts": """
+        many_classes(house) class_place(house, row) class_at(house, number) class_size(house, row)
+        place_in_class(house, row) row_in_class(house, row, number) by_things(house, row)
+        row_of_things(house, row, number) is_row_of_things(house, row, number, value) many_alone(house)
+        many_deeds(house) rows_of_worth(house, worth) classes_of_worth(house, worth) greatest_size(house)
+        crowded_row(house) is_crowded_row(house, value)""",
+    "carryways.holding": """
+        is_held(house, worth) row_of_worth(house, worth) is_row_of_worth(house, worth, value)
+        why_not_held(house, worth) is_why_not_held(house, worth, value) next_held(house, worth)
+        last_held(house, worth) all_held(house) gap_of(house) many_held(house) held_below(house, worth)
+        worth_at(house, number) worth_decides(house) two_of_worth(house) is_two_of_worth(house, value)
+        holds_alike(one, other) unlike_worth(one, other) marks_of(house) least_alike(house)""",
 }
 
 
