@@ -71,3 +71,13 @@ def ways_on(links):
 def many_ways(links):
     """How many carries there are in all."""
     return ways_on(links)[0].get(0, 0)
+
+
+def all_carries(links):
+    """The list of all carries, those with the most out of the first places ahead; for tables of few alone."""
+    found = [[0]]
+    for link in links:
+        outs = sorted(link, reverse=True)
+        found = [early + [out] for early in found for out in outs if link[out][0] <= early[-1] <= link[out][1]]
+    # Nothing goes into the first place or out of the last one; both stand at the ends.
+    return [outs[1:-1] for outs in found]

@@ -47,6 +47,14 @@ def is_tuple_of(value, many):
     return isinstance(value, tuple) and len(value) == many
 
 
+def is_dictionary_over(value, keys):
+    """Whether any object is a dictionary whose keys are just those of another one: tuples of counts."""
+    if not isinstance(value, dict) or len(value) != len(keys):
+        return False
+    # Python takes True for 1, also within keys.
+    return all([isinstance(key, tuple) and all([is_count(part) for part in key]) and key in keys for key in value])
+
+
 def is_just(value, told):
     """Whether any object is what is told: a word, a whole number, or a tuple of such, kind by kind."""
     # Python's == takes True for 1, also within tuples.

@@ -4,6 +4,7 @@ from carryways.carrying import links_of, many_ways, whole_limits
 from carryways.classes import carries_between, greatest_first
 from carryways.ends import turned
 from carryways.houses import weights, whole_worth
+from carryways.rows import weighed
 
 
 def least_of_worth(house, worth):
@@ -12,14 +13,18 @@ def least_of_worth(house, worth):
     return turned(house, greatest_first(house, whole_worth(house) - worth))
 
 
+def links_of_worth(house, greatest):
+    """The links of all carries from the row with the fewest things to the rows of its worth."""
+    # Also across stiff places: two rows of one worth are always some carries away from each other.
+    least = least_of_worth(house, weighed(house, greatest))
+    spans = [(out, 0) for out in carries_between(house, greatest, least)]
+    return links_of(house, greatest, whole_limits(house), spans)
+
+
 def many_rows_of_worth(house, worth):
     """How many rows of the house have a worth, any whole number."""
     greatest = greatest_first(house, worth) if worth >= 0 else None
-    if greatest is None:
-        return 0
-    # Also across stiff places: two rows of one worth are always some carries away from each other.
-    spans = [(out, 0) for out in carries_between(house, greatest, least_of_worth(house, worth))]
-    return many_ways(links_of(house, greatest, whole_limits(house), spans))
+    return many_ways(links_of_worth(house, greatest)) if greatest is not None else 0
 
 
 def with_place(many, room, weight):

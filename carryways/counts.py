@@ -1,6 +1,6 @@
 """How many classes and rows there are, and which of them stands where."""
 
-from carryways.carrying import links_of, many_ways, ways_on, whole_limits
+from carryways.carrying import all_carries, links_of, many_ways, ways_on, whole_limits
 from carryways.checks import is_count_below, is_whole
 from carryways.classes import (
     coarse_row, counts_carried, house_of_parts, houses_of_parts, is_in_class, row_of_class,
@@ -32,6 +32,12 @@ def links_of_class(house, row):
     """The links of all carries from the row to rows of its class."""
     check_house_and_row(house, row)
     return links_of(house, row, whole_limits(house), carry_ranges(house, row))
+
+
+def rows_of_class(house, row):
+    """The ascending list of the rows of the class, for small classes."""
+    # The more goes out of the first places, the less they hold.
+    return [counts_carried(house, row, outs) for outs in all_carries(links_of_class(house, row))]
 
 
 def class_size(house, row):

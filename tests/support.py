@@ -151,6 +151,52 @@ def wrong_steps():
     ]
 
 
+def bent(value, parts):
+    """A list or tuple with a part in the place of each of its own, one by one, for each of some parts."""
+    kind = list if isinstance(value, list) else tuple
+    return [kind([*value[:at], part, *value[at + 1:]]) for at in range(len(value)) for part in parts]
+
+
+def wrong_lists_of_rows():
+    """Objects that are no list, not empty, of rows of the house `loose`."""
+    rows = [[4, 1, 1], [1, 0, 2], [4, 3, 0]]
+    return odd_objects() + [
+        0, 1, (), [], [[]], [None], rows[0], tuple(rows), [(4, 1, 1)], {0: rows[0]}, [rows], [rows[0], rows],
+    ] + [[rows[0], wrong] for wrong in wrong_rows()] + [[wrong] + rows[1:] for wrong in wrong_rows()[::3]]
+
+
+def wrong_prices():
+    """Objects that are no prices of the house `loose`."""
+    right = [[0, 1, 2, 3, 4], [0, 1, 2, 3], [0, 1, 2]]
+    parts = [None, True, "0", [0], (0,), {}, loose()]
+    found = [0, 1, (), [], right[:2], right + [[0]], tuple(right), {0: right[0]}, [0, 1, 2], [4, 3, 2], right[::-1]]
+    found += bent(right, [None, True, 0, "", (), [], {}, (0, 1, 2), [0, 1], [0, 1, 2, 3, 4, 5], loose()])
+    for at, costs in enumerate(right):
+        found += [right[:at] + [wrong] + right[at + 1:] for wrong in bent(costs, parts) + [tuple(costs), costs[1:]]]
+    return odd_objects() + found
+
+
+def wrong_dues():
+    """Objects that are no dues of the house `loose`."""
+    return wrong_carries() + [[-1, 0], [0, -1]]
+
+
+def wrong_event():
+    """Objects that are no event of the house `loose`."""
+    return odd_objects() + [
+        0, 1, (), [], [0, 1], (0,), (0, 1, 1), (0, 0), (2, 0), (3, 1), (-1, 1), (False, 1), (0, True), (True, 1),
+        (None, 1), (0, None), ("0", 1), (0, "1"), ((0,), 1), (0, (1,)), ([0], 1), (loose(), 1), [(0, 1)],
+        (10 ** 20, 1), {0: 1}, (0, False), (0, {}),
+    ]
+
+
+def wrong_events():
+    """Objects that are no events of the house `loose`."""
+    events = [(0, 3), (2, 1), (0, -2)]
+    found = [0, 1, (), tuple(events), (0, 3), [0, 3], {0: (0, 3)}, [events], [[0, 3]], [events[0], [2, 1]]]
+    return odd_objects() + found + [[wrong] for wrong in wrong_event()] + bent(events, wrong_event()[::3])
+
+
 def snapshot(value):
     """A value, with all in it, in a form that stays when the value is changed, and that tells 1 from True."""
     if isinstance(value, House):
@@ -197,8 +243,9 @@ def expect_error(test, error, value, function, *args, **named):
 
 
 def check_wrong_arguments(test, function, *arguments):
-    """Each wrong value of each argument, alone, and with each wrong value of each other argument."""
+    """Each wrong value of each argument, alone, and with each wrong value of each other argument, between right calls."""
     good = [argument.good for argument in arguments]
+    told = snapshot(function(*good))
     for at, argument in enumerate(arguments):
         for wrong in argument.wrong:
             args = good[:at] + [wrong] + good[at + 1:]
@@ -212,6 +259,7 @@ def check_wrong_arguments(test, function, *arguments):
                     expect_error(test, argument.error, wrong, function, *both)
         rest = [other.wrong[0] for other in arguments[at:]]
         expect_error(test, argument.error, rest[0], function, *(good[:at] + rest))
+    test.assertEqual(snapshot(function(**{argument.name: argument.good for argument in arguments})), told)
 
 
 def check_judge(test, function, values, *arguments):

@@ -122,6 +122,59 @@ stiff = House([2, 3], [5, 1, 1])
 # [[1, 5, 13], False, True, True, True, [4, 1], [1, 3, 1]]
 """
 
+MIDDLES = """
+from carryways.houses import House
+from carryways.middles import is_center, is_middle, least_sum, many_middles, middle, middle_ends, sum_of_deeds
+loose = House([3, 2], [4, 3, 2])
+rows = [[1, 0, 2], [4, 1, 1], [4, 3, 0]]
+[middle(loose, rows), least_sum(loose, rows), sum_of_deeds(loose, rows, [1, 2, 1]), middle_ends(loose, rows[1:]), many_middles(loose, rows[1:]), many_middles(loose, [rows[0], rows[2]]), is_middle(loose, [rows[0], rows[2]], [1, 2, 1])]
+# [[4, 1, 1], 3, 4, ([4, 3, 0], [4, 1, 1]), 2, 4, True]
+[is_center(loose, rows, [4, 1, 1]), is_center(loose, rows, [1, 2, 1]), is_center(loose, rows, [4, 3, 0])]
+# [True, True, False]
+"""
+
+PRICES = """
+from carryways.houses import House
+from carryways.prices import bounds_of, cheapest, least_by, least_price, least_total, many_cheapest, price_of, prices_alike, two_prices
+house, row = House([3, 2], [4, 3, 2]), [4, 1, 1]
+things, late = [[0, 1, 2, 3, 4], [0, 1, 2, 3], [0, 1, 2]], [[0, 0, 0, 0, 0], [0, 5, 5, 5], [0, 1, 9]]
+[price_of(house, row, things), least_price(house, row, things), cheapest(house, row, things), many_cheapest(house, row, things)]
+# [6, 3, [1, 0, 2], 1]
+[least_price(house, row, late), cheapest(house, row, late), two_prices(house, row, things, late), prices_alike(house, row, things), least_total(house, row, late, [1, 1])]
+# [5, [4, 3, 0], [(3, 9), (4, 6), (7, 5)], False, 6]
+told = bounds_of(house, row, things)
+[told, least_by(house, row, things, told)]
+# [{(0, 0): 4, (0, 1): 1, (1, 0): 7, (1, 1): 3, (1, 2): 1}, 3]
+"""
+
+EVENTS = """
+from carryways.events import always_served, any_order, bad_lot, first_unserved, heights_of, is_run_of, is_served, least_by, least_toll, many_orders, run_of_least, wish_of, worths_along
+from carryways.houses import House
+loose, row, events = House([3, 2], [4, 3, 2]), [4, 1, 1], [(0, 3), (2, 1), (0, -2)]
+[wish_of(loose, (0, 3)), is_served(loose, row, events), worths_along(loose, row, events), first_unserved(loose, row, events + [(1, 3)]), worths_along(loose, row, events + [(1, 3)]) == worths_along(loose, row, events)]
+# [[(0, 1), (0, 3), (0, 2)], True, [[13], [16], [22], [20]], 3, True]
+[least_toll(loose, row, events), run_of_least(loose, row, events), is_run_of(loose, row, events, [[1, 0, 2], [1, 3, 1], [4, 2, 2]])]
+# [1, [[1, 2, 1], [4, 2, 1], [4, 2, 2]], True]
+[many_orders(loose, row, events), any_order(loose, row, events) is None, always_served(loose, row, events), always_served(loose, row, [(0, 3), (1, 2), (2, -2)])]
+# [3, False, False, True]
+heights = heights_of(loose, row, events)
+[heights[0], heights[3], least_by(loose, row, events, heights)]
+# [{(1, 0, 2): 2, (1, 2, 1): 1, (4, 1, 1): 0, (4, 3, 0): 1}, {(2, 2, 2): 1}, 1]
+"""
+
+SUMS = """
+from carryways.houses import House
+from carryways.sums import added_house, added_row, all_payable, can_be_brought, can_pay, fewest_handed, is_payment, next_payable, payment_bar
+one, other = House([3, 2], [4, 3, 2]), House([3, 2], [2, 1, 1])
+[added_house(one, other).rooms(), added_row(one, other, [4, 1, 1], [2, 1, 0]), can_be_brought(one, other, [4, 1, 1], [2, 1, 0], [4, 3, 1]), can_be_brought(one, other, [4, 1, 1], [2, 1, 0], [2, 1, 2])]
+# [[6, 4, 3], [6, 2, 1], True, False]
+till = House([12, 20], [11, 19, 5])
+[can_pay(till, till, [3, 1, 1], [5, 4, 0], 9), is_payment(till, till, [3, 1, 1], [5, 4, 0], 9, ([0, 1, 0], [3, 0, 0])), fewest_handed(till, till, [3, 1, 1], [5, 4, 0], 9)]
+# [True, True, 4]
+[payment_bar(till, till, [3, 1, 1], [5, 4, 0], 5), next_payable(till, till, [3, 1, 1], [5, 4, 0], 4), fewest_handed(till, till, [3, 1, 1], [5, 4, 0], 195), all_payable(till, till, [3, 1, 1], [5, 4, 0])]
+# [('place', 0), 7, 8, False]
+"""
+
 
 class Examples(unittest.TestCase):
     def check_block(self, block, many):
@@ -160,6 +213,18 @@ class Examples(unittest.TestCase):
 
     def test_holding(self):
         self.check_block(HOLDING, 3)
+
+    def test_middles(self):
+        self.check_block(MIDDLES, 2)
+
+    def test_prices(self):
+        self.check_block(PRICES, 3)
+
+    def test_events(self):
+        self.check_block(EVENTS, 4)
+
+    def test_sums(self):
+        self.check_block(SUMS, 3)
 
 
 if __name__ == "__main__":

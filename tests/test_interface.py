@@ -61,6 +61,34 @@ FUNCTIONS = {
         last_held(house, worth) all_held(house) gap_of(house) many_held(house) held_below(house, worth)
         worth_at(house, number) worth_decides(house) two_of_worth(house) is_two_of_worth(house, value)
         holds_alike(one, other) unlike_worth(one, other) marks_of(house) least_alike(house)""",
+    "carryways.middles": """
+        sum_of_deeds(house, rows, row) middle(house, rows) middle_ends(house, rows) is_middle(house, rows, value)
+        least_sum(house, rows) many_middles(house, rows) center(house, rows) is_center(house, rows, value)""",
+    "carryways.prices": """
+        are_prices(house, value) price_of(house, row, prices) least_price(house, row, prices)
+        cheapest(house, row, prices) is_cheapest(house, row, prices, value) many_cheapest(house, row, prices)
+        bounds_of(house, row, prices) are_bounds(house, row, prices, value) least_by(house, row, prices, bounds)
+        least_total(house, row, prices, dues) best_row(house, row, prices, dues)
+        is_best_row(house, row, prices, dues, value) two_prices(house, row, prices, others)
+        prices_alike(house, row, prices) unlike_deed(house, row, prices) is_unlike_deed(house, row, prices, value)""",
+    "carryways.events": """
+        are_events(house, value) behind_event(house, row, event) wish_of(house, event) is_served(house, row, events)
+        first_unserved(house, row, events) worths_along(house, row, events) run_of(house, row, events)
+        is_run_of(house, row, events, value) why_unserved(house, row, events)
+        is_why_unserved(house, row, events, value) least_toll(house, row, events) run_of_least(house, row, events)
+        is_run_of_least(house, row, events, value) heights_of(house, row, events)
+        are_heights(house, row, events, value) least_by(house, row, events, heights)
+        is_served_so(house, row, events, order) many_orders(house, row, events) any_order(house, row, events)
+        first_order(house, row, events) always_served(house, row, events) bad_lot(house, row, events)
+        is_bad_lot(house, row, events, value)""",
+    "carryways.sums": """
+        added_house(one, other) added_row(one, other, first, second) can_be_brought(one, other, first, second, rooms)
+        brought_row(one, other, first, second, rooms) is_brought_row(one, other, first, second, rooms, value)
+        can_pay(one, other, first, second, worth) payment(one, other, first, second, worth)
+        is_payment(one, other, first, second, worth, value) payment_bar(one, other, first, second, worth)
+        is_payment_bar(one, other, first, second, worth, value) next_payable(one, other, first, second, worth)
+        all_payable(one, other, first, second) fewest_handed(one, other, first, second, worth)
+        fewest_payment(one, other, first, second, worth) is_fewest_payment(one, other, first, second, worth, value)""",
 }
 
 
