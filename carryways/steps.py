@@ -4,7 +4,6 @@ from carryways.chains import many_shortest, neck, steps_between, waits_between, 
 from carryways.classes import carries, check_joined, counts_carried
 from carryways.ends import greatest_row, least_row
 from carryways.errors import InvalidSteps
-from carryways.rows import check_house_and_row
 from carryways.waiting import are_steps_of, rounds_of, steps_free, steps_of_outs, with_steps
 
 

@@ -3,14 +3,13 @@
 from carryways.carrying import best_carries, links_of, whole_limits
 from carryways.checks import is_count, is_tuple_of
 from carryways.classes import (
-    carries_between, counts_carried, filled_by_parts, house_of_parts, houses_of_parts, is_in_class, joined, part_worths,
-    parts,
+    carries_between, counts_carried, filled_by_parts, house_of_parts, is_in_class, joined, part_worths, parts,
 )
 from carryways.counting import many_rows_of_worth
 from carryways.ends import dead_places, deeds_of_carries, turned
 from carryways.errors import InvalidWish, Refused
 from carryways.houses import House, check_house, check_place, stretch
-from carryways.rows import check_house_and_row, check_two_rows, weighed
+from carryways.rows import check_house_and_row, check_two_rows
 
 
 def is_range_within(value, room):

@@ -4,6 +4,7 @@ from itertools import product
 
 from carryways.errors import Apart, CarryError, InvalidHouse, InvalidPlace, InvalidRow
 from carryways.houses import House
+from carryways.yard import Yard
 
 
 def loose():
@@ -44,7 +45,16 @@ def rows_of(house):
 
 def odd_objects():
     """Objects that are no number, no list and no tuple of any use."""
-    return [None, True, False, "", "up", "a\tb\n", {}, {0: 1}, {"a": [1]}, loose(), CarryError(), InvalidRow([1])]
+    yard = Yard(loose())
+    return [
+        None, True, False, "", "up", "a\tb\n", {}, {0: 1}, {"a": [1]}, {(1, ("a", None)): {yard: True}}, loose(),
+        CarryError(), InvalidRow([1]), yard,
+    ]
+
+
+def no_yards():
+    """Objects that are no yard."""
+    return [value for value in odd_objects() if not isinstance(value, Yard)] + [0, 1, [], (), Yard, [Yard(loose())]]
 
 
 def wrong_houses():
@@ -107,7 +117,8 @@ def wrong_chains():
     return odd_objects() + [
         0, 1, (), (("up", 0),), ("up", 0), ["up", 0], [None], [[]], [["up", 0]], ["up"], [("up", 1)], [("down", 0)],
         [("up", 0), ("up", 0)], [("up", 0), ("up", 1), ("up", 0)], [("up", 0), ("up", 2)], [("up", 0), None],
-        [("up", 2)], [("up", -1)], [("up", True)], [("down", 1), ("down", 1)], {("up", 0): 1}, [("up", 0), ("up", False)],
+        [("up", 2)], [("up", -1)], [("up", True)], [("down", 1), ("down", 1)], {("up", 0): 1},
+        [("up", 0), ("up", False)],
     ]
 
 
@@ -199,15 +210,16 @@ def wrong_events():
 
 def snapshot(value):
     """A value, with all in it, in a form that stays when the value is changed, and that tells 1 from True."""
-    if isinstance(value, House):
-        return ("House", tuple(value.bases()), tuple(value.rooms()))
-    if isinstance(value, (list, tuple)):
-        return (type(value).__name__, tuple(snapshot(part) for part in value))
-    if isinstance(value, dict):
-        return ("dict", tuple((snapshot(key), snapshot(value[key])) for key in value))
+    kind = type(value)
+    if kind is list or kind is tuple:
+        return (kind, tuple(map(snapshot, value)))
+    if kind is dict:
+        return (kind, tuple((snapshot(key), snapshot(part)) for key, part in value.items()))
+    if kind is House:
+        return (kind, tuple(value.bases()), tuple(value.rooms()))
     if isinstance(value, CarryError):
-        return (type(value).__name__, snapshot(vars(value)))
-    return (type(value).__name__, value)
+        return (kind, snapshot(vars(value)))
+    return (kind, value)
 
 
 class Argument:
@@ -243,7 +255,7 @@ def expect_error(test, error, value, function, *args, **named):
 
 
 def check_wrong_arguments(test, function, *arguments):
-    """Each wrong value of each argument, alone, and with each wrong value of each other argument, between right calls."""
+    """Each wrong value of each argument, alone and with each wrong value of the later ones, between right calls."""
     good = [argument.good for argument in arguments]
     told = snapshot(function(*good))
     for at, argument in enumerate(arguments):

@@ -371,7 +371,8 @@ class Orders(unittest.TestCase):
             positions, bad = range(len(events)), []
             for many in positions:
                 for lot in combinations(positions, many):
-                    orders = [order for order in permutations(lot) if self.is_so(house, row, [events[at] for at in order])]
+                    orders = [order for order in permutations(lot) if self.is_so(house, row,
+                        [events[at] for at in order])]
                     bad += [(list(lot), at) for at in positions if at not in lot and orders
                             and not self.is_so(house, row, [events[late] for late in orders[0] + (at,)])]
             told = check_leaves_arguments(self, bad_lot, house, row, events)

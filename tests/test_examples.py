@@ -175,6 +175,56 @@ till = House([12, 20], [11, 19, 5])
 # [('place', 0), 7, 8, False]
 """
 
+CHANGES = """
+from carryways.changes import changed_by, classes_within, freed, is_kept_apart, must_free, parts_then, parts_within, split, split_row, upside_down, widening
+from carryways.houses import House
+house = House([2, 3, 2], [3, 2, 1, 2])
+[must_free(house, [0, 0, 1, 0], [2, 2, 0, 0]), must_free(house, [0, 0, 0, 1], [2, 2, 1, 0]), must_free(house, [1, 0, 0, 0], [0, 0, 1, 0])]
+# [[1], [1, 2], None]
+late = freed(house, [1])
+[late.rooms(), parts_within(house, late), widening(house, [0, 0, 1, 0], [2, 2, 0, 0]) == late]
+# [[3, 3, 1, 2], [[(0, 1), (2, 2)], [(3, 3)]], True]
+[classes_within(house, late, [0, 0, 1, 0]), upside_down(house, [3, 0, 1, 2]), split(House([6], [7, 2]), 0, 2, 3, 3).rooms(), split_row(House([6], [7, 2]), 0, [6, 1])]
+# [[[0, 1, 0], [6, 0, 0]], [0, 2, 0, 0], [7, 3, 2], [6, 0, 1]]
+[is_kept_apart(House([6], [7, 2]), 0, 2, 3, 3, [6, 0], [0, 1]), is_kept_apart(House([6], [7, 2]), 0, 2, 3, 2, [6, 0], [0, 1]), parts_then(house, [("room", 1, 3), ("longer", 5, 1)])]
+# [False, True, [3, 2, 3]]
+"""
+
+YARD = """
+from carryways.houses import House
+from carryways.yard import Yard, replayed
+yard = Yard(House([3, 2], [4, 3, 2]))
+[yard.put([4, 1, 1]), yard.make(0, ("up", 0)), yard.row_there(0), yard.aim(0, [4, 3, 0]), len(yard.way(0)), yard.is_way(0, [("down", 0), ("down", 1)]), yard.go(0, [4, 3, 0]), yard.is_met(0)]
+# [0, None, [1, 2, 1], None, 2, True, 2, True]
+[yard.let_go(0), yard.lift(0), yard.row_there(0), yard.come(0, 0, 2), yard.row_there(0), yard.put([0, 1, 0]), yard.pour(0, 1), yard.row_there(0)]
+# [None, None, [1, 0, 2], None, [3, 0, 2], 1, None, [3, 1, 2]]
+[yard.undo(), yard.spots(), yard.alike_spots(0), yard.farthest_spots(), len(yard.record()), replayed(Yard(yard.house()), yard.record()).row_there(0)]
+# [None, [0, 1], [], [0], 8, [3, 0, 2]]
+"""
+
+SCRIPTS = r"""
+from carryways.houses import House
+from carryways.scripts import end_of, play, read_script, script_text, shortened
+from carryways.yard import Yard
+loose = House([3, 2], [4, 3, 2])
+day = [("put", [4, 1, 1]), ("make", 0, ("up", 0)), ("make", 0, ("up", 2)), ("try", [("lift", 0), ("row_there", 0)]), ("come", 0, 0, -2), ("is_met", 0), ("farthest_spots",), ("undo",)]
+play(Yard(loose), day)
+# [('put', 0), ('done',), ('refused', 'InvalidDeed'), ('tried', [('done',), ('told', [1, 0, 2])]), ('refused', 'Refused'), ('told', True), ('told', [0]), ('done',)]
+[end_of(loose, day), shortened(loose, day) == [day[0], day[1], day[7]], read_script(script_text(day)) == day]
+# [{0: ([4, 1, 1], None)}, True, True]
+script_text([("put", [4, 1, 1]), ("make", 0, ("up", 0)), ("come", 0, 1, -1), ("try", [("undo",)])])
+# 'put 4 1 1\nmake 0 up 0\ncome 0 1 -1\ntry\n  undo\nend'
+"""
+
+PAPERS = r"""
+from carryways.houses import House
+from carryways.papers import chain_text, house_text, read_chain, read_house, read_rows, rows_text
+[house_text(House([3, 2], [4, 3, 2])), house_text(House([], [5])), read_house("bases\nrooms 5") == House([], [5])]
+# ['bases 3 2\nrooms 4 3 2', 'bases\nrooms 5', True]
+[rows_text([[4, 1, 1], [0]]), read_rows("4 1 1\n0"), chain_text([("up", 0), ("down", 1)]), read_chain("up 10")]
+# ['4 1 1\n0', [[4, 1, 1], [0]], 'up 0\ndown 1', [('up', 10)]]
+"""
+
 
 class Examples(unittest.TestCase):
     def check_block(self, block, many):
@@ -225,6 +275,18 @@ class Examples(unittest.TestCase):
 
     def test_sums(self):
         self.check_block(SUMS, 3)
+
+    def test_changes(self):
+        self.check_block(CHANGES, 4)
+
+    def test_yard(self):
+        self.check_block(YARD, 3)
+
+    def test_scripts(self):
+        self.check_block(SCRIPTS, 3)
+
+    def test_papers(self):
+        self.check_block(PAPERS, 2)
 
 
 if __name__ == "__main__":

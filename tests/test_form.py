@@ -13,13 +13,13 @@ ALLOWED_BUILTINS = [
 METHODS = """
     append clear copy count endswith extend find get index insert isalnum isalpha isdigit islower isspace isupper items
     join keys ljust lower lstrip partition pop remove replace reverse rfind rjust rpartition rsplit rstrip setdefault
-    split splitlines startswith strip update upper values zfill bit_length""".split()
+    split splitlines startswith strip update upper values zfill bit_length removeprefix""".split()
 WORDS = """
     type typing typing_extensions enum Enum IntEnum StrEnum Flag IntFlag Generic Protocol ABC ABCMeta namedtuple
     NamedTuple TypedDict TYPE_CHECKING abstractmethod register mro elements open input law version_info""".split()
 BARRED = (
     ast.GeneratorExp, ast.Global, ast.AsyncFunctionDef, ast.Await, ast.Div, ast.Import, ast.Pow, ast.Lambda, ast.Yield,
-    ast.SetComp, ast.Set, ast.Try)
+    ast.SetComp, ast.Set, ast.Match)
 
 
 def texts():
@@ -32,8 +32,11 @@ def texts():
     return found
 
 
+TREES = {name: ast.parse(text) for name, text in texts().items()}
+
+
 def trees():
-    return {name: ast.parse(text) for name, text in texts().items()}
+    return TREES
 
 
 def imports_of(tree):
@@ -124,6 +127,27 @@ class Form(unittest.TestCase):
                     for sign, late in zip(node.ops, node.comparators):
                         if isinstance(sign, (ast.Is, ast.IsNot)):
                             self.assertIsInstance(late, ast.Constant, (name, node.lineno))
+
+    def test_own_errors_alone_are_caught_by_name(self):
+        own = [node.name for node in trees()["errors.py"].body if isinstance(node, ast.ClassDef)]
+        for name, tree in trees().items():
+            for node in ast.walk(tree):
+                if isinstance(node, ast.Try):
+                    self.assertEqual(node.finalbody, [], name)
+                    for handler in node.handlers:
+                        self.assertIn(getattr(handler.type, "id", None), own, (name, handler.lineno))
+                        self.assertIsNone(handler.name)
+                if isinstance(node, ast.Raise):
+                    self.assertIn(getattr(getattr(node.exc, "func", None), "id", None), own, (name, node.lineno))
+
+    def test_blocks_are_left_by_plain_assignments(self):
+        left = [node for tree in trees().values() for node in ast.walk(tree)
+                if isinstance(node, ast.FunctionDef) and node.name == "__exit__"]
+        self.assertEqual(len(left), 1)
+        for row in left[0].body:
+            self.assertIsInstance(row, ast.Assign)
+            self.assertIsInstance(row.value, ast.Attribute)
+            self.assertEqual(row.value.value.id, "self")
 
     def test_what_is_looped_over_is_not_changed(self):
         changing = ("append", "clear", "extend", "insert", "pop", "remove", "reverse", "setdefault", "update")

@@ -137,7 +137,8 @@ class Next(unittest.TestCase):
     def test_rooms_that_are_empty_above_leave_no_gap(self):
         self.assertEqual([all_held(House([60, 60], [7, 0, 0])), gap_of(House([60, 60], [7, 0, 0]))], [True, None])
         self.assertEqual(gap_of(House([60, 60], [7, 0, 1])), 8)
-        self.assertEqual([all_held(House([], [0])), many_held(House([], [0])), worth_at(House([], [0]), 0)], [True, 1, 0])
+        self.assertEqual([all_held(House([], [0])), many_held(House([], [0])), worth_at(House([], [0]), 0)],
+            [True, 1, 0])
 
     def test_wrong_arguments(self):
         for function in (all_held, gap_of, many_held, worth_decides, two_of_worth, marks_of, least_alike):

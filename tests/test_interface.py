@@ -6,6 +6,7 @@ import unittest
 
 import carryways.errors
 from carryways.houses import House
+from carryways.yard import Yard
 from tests.test_errors import BARE, VALUED
 
 FUNCTIONS = {
@@ -89,7 +90,26 @@ FUNCTIONS = {
         is_payment_bar(one, other, first, second, worth, value) next_payable(one, other, first, second, worth)
         all_payable(one, other, first, second) fewest_handed(one, other, first, second, worth)
         fewest_payment(one, other, first, second, worth) is_fewest_payment(one, other, first, second, worth, value)""",
+    "carryways.changes": """
+        with_rooms(house, rooms) freed(house, places) must_free(house, one, other) widening(house, one, other)
+        parts_within(house, late) classes_within(house, late, row) are_joined_still(house, late)
+        split(house, place, first, second, room) split_row(house, place, row)
+        is_kept_apart(house, place, first, second, room, one, other) upside_down(house, row)
+        longer(house, base, room) shorter(house, many) longer_row(house, row, number) changed_by(house, changes)
+        parts_then(house, changes)""",
+    "carryways.scripts": """
+        play(yard, script) script_text(script) read_script(text) end_of(house, script) shortened(house, script)""",
+    "carryways.papers": """
+        house_text(house) read_house(text) rows_text(rows) read_rows(text) chain_text(deeds) read_chain(text)""",
+    "carryways.yard": """
+        replayed(yard, record)""",
 }
+
+YARD = """
+        house() put(row) take(spot) spots() row_there(spot) aim_there(spot) deeds_there(spot) make(spot, deed)
+        go(spot, row) lower(spot) lift(spot) come(spot, place, number) aim(spot, row) let_go(spot) is_met(spot)
+        way(spot) is_way(spot, value) pour(one, other) alike_spots(spot) farthest_spots() trial() attempt(action)
+        copy() undo() redo() record()"""
 
 
 class Interface(unittest.TestCase):
@@ -106,6 +126,15 @@ class Interface(unittest.TestCase):
         self.assertEqual(House.__module__, "carryways.houses")
         for name in ("bases", "rooms", "places", "__eq__"):
             self.assertIn(name, vars(House))
+
+    def test_yard(self):
+        self.assertEqual(str(inspect.signature(Yard)), "(house)")
+        self.assertEqual(Yard.__module__, "carryways.yard")
+        for wanted in " ".join(YARD.split()).replace(") ", ")\n").split("\n"):
+            name, _, rest = wanted.partition("(")
+            self.assertIn(name, vars(Yard))
+            signature = inspect.signature(vars(Yard)[name])
+            self.assertEqual(list(signature.parameters)[1:], [part for part in rest[:-1].split(", ") if part])
 
     def test_errors(self):
         for name in ["CarryError"] + VALUED + BARE:

@@ -147,7 +147,8 @@ class Closed(unittest.TestCase):
 
     def test_ascending_without_doubles(self):
         self.assertIs(are_closed(loose(), ROW, [(0, 1), (1, 1)]), True)
-        for value in [[(1, 1), (0, 1)], [(0, 1), (1, 1), (1, 1)], [(1, 1), (1, 1)], [(0, 1)], [(1, 2)], [(1, 1), (1, 2)]]:
+        for value in [[(1, 1), (0, 1)], [(0, 1), (1, 1), (1, 1)], [(1, 1), (1, 1)], [(0, 1)], [(1, 2)],
+                [(1, 1), (1, 2)]]:
             self.assertIs(are_closed(loose(), ROW, value), False)
 
     def test_judges_any_object(self):

@@ -124,7 +124,8 @@ class Added(unittest.TestCase):
         # No row of the one house, but one of both.
         self.assertIs(is_brought_row(loose(), other_house(), FIRST, SECOND, [9, 9, 9], [0, 0, 3]), True)
         for value in wrong_rows() + [[18, 0, 0], [3, 5, 0], [0, 6, 0]]:
-            told = check_leaves_arguments(self, is_brought_row, loose(), other_house(), FIRST, SECOND, [20, 9, 2], value)
+            told = check_leaves_arguments(self, is_brought_row, loose(), other_house(), FIRST, SECOND, [20, 9, 2],
+                value)
             self.assertIs(told, False)
 
 
